@@ -1,7 +1,6 @@
 package figure
 
 import (
-	"slices"
 	"strconv"
 	"strings"
 
@@ -22,6 +21,16 @@ var verbs = [...]string{
 	api.TermRow:    "row",
 	api.TermMirror: "mirror",
 	api.TermSpun:   "spun",
+}
+
+// kindOf returns the kind of term that a word says: 0 if it says none.
+func kindOf(word string) uint8 {
+	for kind, verb := range verbs {
+		if verb == word {
+			return uint8(kind)
+		}
+	}
+	return 0
 }
 
 // line is the words of a line that are still to be read, and the indices of the terms before it, at their names.
@@ -105,11 +114,10 @@ func (x *line) term() (api.Term, api.Errno) {
 	}
 	t := api.Term{Name: x.word()}
 	equals := x.word()
-	kind := slices.Index(verbs[:], x.word())
-	if equals != "=" || kind <= 0 {
+	t.Kind = kindOf(x.word())
+	if equals != "=" || t.Kind == 0 {
 		return api.Term{}, api.ErrForm
 	}
-	t.Kind = uint8(kind)
 	forms[t.Kind](x, &t)
 	switch {
 	case x.formless || len(x.words) > 0:
